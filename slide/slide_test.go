@@ -269,6 +269,7 @@ func TestPartsOfAPlan(t *testing.T) {
 		[]api.Span{of(0, 0, 0), of(2, 3, 0, 0, 1), of(3, 7, 300, 0), of(5, 4, 0), of(6, 7, 700, 0)},
 		[]api.Span{of(0, 3, 0, 0, 1), of(1, 7, 300, 0), of(3, 7, 700, 0)},
 		[]api.Move{move(512, 0, 256), move(768, 256, 512), move(1536, 768, 768)})
+	planIs(t, 4, []api.Span{of(1, 7, 300, 0)}, []api.Span{of(0, 7, 300, 0)}, []api.Move{move(256, 0, 512)})
 	// the first spans stay where they are
 	planIs(t, 9,
 		[]api.Span{of(0, 3, 0, 0, 1), of(1, 7, 300, 0), of(4, 6, 0, 0)},
