@@ -558,15 +558,16 @@ func TestMoveOfAddresses(t *testing.T) {
 	}
 }
 
-// P17.3: without places it stays as it is, wherever it is moved.
+// P17.3: without places it has the same bytes wherever it is moved, and the base 0, whichever it had.
 func TestMoveWithoutPlaces(t *testing.T) {
 	for _, from := range []int{0, 256, 1 << 40} {
-		for _, d := range []api.Span{of(7, 0, 0, 3), of(7, 0, 0), of(1, 7, 300, 0)} {
+		for _, d := range []api.Span{of(7, 0, 0, 3), of(7, 0, 0), of(1, 7, 300, 0), of(0, 7, 129)} {
 			m := image.Image{Span: d, Base: from, Bytes: anyBytes(noise(3), modelSize(d))}
+			want := image.Image{Span: d, Bytes: m.Bytes}
 			for _, n := range []int{0, 1, 256, 1 << 20} {
-				for _, base := range []int{256, 1024, 1 << 40} {
-					if to, e := image.Move(m, base, n); e != api.OK || !sameImage(to, m) {
-						t.Errorf("Move(%v, %d, %d): %v, %v", m, base, n, to, e)
+				for _, base := range []int{256, 1024, 5336910080, 1 << 40} {
+					if to, e := image.Move(m, base, n); e != api.OK || !sameImage(to, want) || !image.Right(to) {
+						t.Errorf("Move(%v, %d, %d): %v, %v, not %v", m, base, n, to, e, want)
 					}
 				}
 			}
@@ -606,8 +607,13 @@ func TestMoveThereAndBack(t *testing.T) {
 		}
 		there, _ := image.Move(m, base, most)
 		back, e := image.Move(there, max(m.Base, 256), most)
-		if e != api.OK || !sameImage(back, m) {
-			t.Errorf("there and back: %v, %v, not %v", back, e, m)
+		want := m
+		if len(m.Offs) == 0 {
+			// its base was of no use, and none is told
+			want.Base = 0
+		}
+		if e != api.OK || !sameImage(back, want) {
+			t.Errorf("there and back: %v, %v, not %v", back, e, want)
 		}
 		way, _ := image.Move(m, third, most)
 		again, e := image.Move(way, base, most)

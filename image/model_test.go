@@ -342,6 +342,7 @@ func modelMove(m image.Image, base, n int) (image.Image, api.Errno) {
 		return image.Image{}, api.ErrArg
 	}
 	to := copyOfImage(m)
+	to.Base = 0
 	for _, p := range m.Offs {
 		to.Base = base
 		address := word(m.Bytes, p)
